@@ -28,7 +28,7 @@ type request struct {
 func entryKinds() []entryKind {
 	return []entryKind{
 		{"note", api.ArchiveReader, 0, true, (*record).note},
-		{"day", api.ArchiveTechnician, 1, false, (*record).begin},
+		{"day", api.ArchiveTechnician, 1, false, (*record).beginDay},
 		{"carrier", api.ArchiveKeeper, 0, true, (*record).addCarrier},
 		{"embargo", api.ArchiveKeeper, 2, false, (*record).embargo},
 		{"lend", api.ArchiveKeeper, 3, false, (*record).lend},
@@ -111,7 +111,7 @@ func (r *record) note(request) api.Errno {
 	return api.OK
 }
 
-func (r *record) begin(x request) api.Errno {
+func (r *record) beginDay(x request) api.Errno {
 	date, e := dateIn(x.words[0])
 	e = firstError(e, when(date < r.day, api.ErrOrder))
 	if e != api.OK {
